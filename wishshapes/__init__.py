@@ -1,0 +1,1 @@
+"""Wishshapes: when no fence is too weak, and all wishes can be met."""
