@@ -34,7 +34,7 @@ DEEP_PAIR = nested((2, ()), lambda value: (2, value))
 
 # Of every other kind; none is a net, nor wishes, a fence, some points, an order or a point, nor a width.
 ODD_KINDS = (
-    None, True, False, -1, 9, 10 ** 50, 2.0, 1.0, float("nan"), 1j, "", "2", "net", b"", b"\x02", [], [0], [1], [[]],
+    None, True, False, -1, 41, 10 ** 50, 2.0, 1.0, float("nan"), 1j, "", "2", "net", b"", b"\x02", [], [0], [1], [[]],
     {}, {0: 1}, {1}, set(), frozenset(), frozenset([1]), range(2), range(0), object(), object, len, bytearray(b"1"),
     (None,), ("",), (True,), (False,), (1.0,), ("1",), ([],), ({},), ((),), ((), ()), (2, None), (2, [], ()), (9,),
     DEEP_TUPLE, DEEP_LIST, DEEP_PAIR, (DEEP_LIST,), (2, DEEP_TUPLE), (2, (DEEP_TUPLE,)), (2, ((0, 1, DEEP_TUPLE),)),

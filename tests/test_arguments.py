@@ -1,22 +1,31 @@
-"""Points 8 and 20: wrong arguments, the first one first, ahead of all other errors."""
+"""Points 8, 20, 33, 43 and 55: wrong arguments, the first one first, ahead of all other errors."""
 
 import unittest
 
 from samples import ACROSS, ODD_KINDS, RING
-from wishshapes import made, nets
+from wishshapes import made, nets, pairs, shapes, single, tables
 from wishshapes.errors import BadValue, NotPossible, TooLarge, WishError
 
 TRUE_NET = (4, ((0, True, 1), (0, 3, 1), (1, 2, 1), (2, 3, 1)))
 LIST_NET = (4, [(0, 1, 1), (0, 3, 1), (1, 2, 1), (2, 3, 1)])
 LONG = tuple((one, other, 1) for one in range(3) for other in range(one + 1, 7))[:11]
 
-RIGHT = {"net": RING, "wishes": ACROSS, "fence": (1, 2), "some": (0, 2), "order": (1, 0, 2, 3), "one": 1, "other": 3}
+LONG_SHAPE = tuple(link[:2] for link in LONG)
+NUMBERS = ((0, 1, 4), (0, 2, 3), (0, 3, 0), (1, 2, 3), (1, 3, 0), (2, 3, 0))
+SEVEN = (6, 5, 4, 3, 2, 1, 0)
+
+# Where functions ask different things of an argument of the same name, a further word tells them apart.
+RIGHT = {
+    "net": RING, "wishes": ACROSS, "fence": (1, 2), "some": (0, 2), "order": (1, 0, 2, 3), "one": 1, "other": 3,
+    "amount": 2, "points": 4, "numbers": NUMBERS, "pair": (0, 2), "other pair": (1, 3), "amounts": (1, 1),
+    "shape": ((0, 1), (2, 3)), "order of seven": SEVEN, "value": None,
+}
 
 # For each argument what is wrong for it while all the others are right.
 WRONG = {
     "net": [TRUE_NET, LIST_NET, list(RING), (1, ()), (8, ()), (4, ((0, 4, 1),)), (4, ((0, 1, 7),)),
-            (4, ((0, 1, 0),)), (4, ((1, 0, 1),)), (4, ((0, 3, 1), (0, 1, 1))), (4, ((0, 1, 1), (0, 1, 2))), (4,), RING[1],
-            ("4", ()), (4, (), ())],
+            (4, ((0, 1, 0),)), (4, ((1, 0, 1),)), (4, ((0, 3, 1), (0, 1, 1))), (4, ((0, 1, 1), (0, 1, 2))), (4,),
+            RING[1], ("4", ()), (4, (), ())],
     "wishes": [[], list(ACROSS), ACROSS[::-1], ((0, 4, 1),), ((0, 1, 7),), ((0, 1, 0),), ((0, 1, True),), LONG,
                ((1, 1, 1),), ((0, 1, 1), (0, 1, 2)), ([0, 1, 1],), (0, 1, 1)],
     "fence": [(), (0,), (0, 1), (4,), (2, 1), (1, 1), [1, 2], (True,), (1, 2, 3, 4), 1, "12", (-1, 1)],
@@ -25,6 +34,25 @@ WRONG = {
               (False, True, 2, 3), (0, True, 2, 3), (0, 1, 2, 3, 3), "0123", (0, 0, 3, 3), range(4)],
     "one": [-1, 4, 5, True, False, 1.0, "1", None, (1,), [1]],
     "other": [-1, 4, 5, 0, 1, True, 3.0, "3", None, (3,), [3]],
+    "amount": [-1, 41, 100, True, False, 2.0, "2", None, (2,), [2]],
+    "points": [-4, 0, 1, 8, True, 4.0, "4", None, (4,), [4]],
+    "numbers": [(), NUMBERS[1:], NUMBERS[:-1], NUMBERS + ((3, 4, 0),), NUMBERS[::-1], list(NUMBERS),
+                NUMBERS + NUMBERS[:1], ((0, 1, 7), *NUMBERS[1:]), ((0, 1, -1), *NUMBERS[1:]),
+                ((0, 1, True), *NUMBERS[1:]),
+                ((0, True, 4), *NUMBERS[1:]), ((False, 1, 4), *NUMBERS[1:]), ((1, 0, 4), *NUMBERS[1:]),
+                ([0, 1, 4], *NUMBERS[1:]), ((0, 1), *NUMBERS[1:]), ((0, 1, 4, 0), *NUMBERS[1:]), ((0, 1, 4.0), *NUMBERS[1:]),
+                (None, *NUMBERS[1:]),
+                (NUMBERS[1], NUMBERS[0], *NUMBERS[2:]), (*NUMBERS[:5], (2, 4, 0)), ((0, 1, 1), (0, 2, 1), (1, 2, 1))],
+    "pair": [(2, 0), (0, 0), (0, 4), (-1, 2), (0,), (0, 1, 2), [0, 2], (False, 2), (0, True), (0, 2.0), "02", 2, ()],
+    "other pair": [(0, 2), (3, 1), (1, 1), (1, 4), (-1, 3), (1,), (1, 2, 3), [1, 3], (True, 3), (1, 3.0), "13", 1, ()],
+    "amounts": [(), (1,), (1, 1, 1), [1, 1], (-1, 1), (1, -1), (41, 1), (1, 41), (True, 1), (1, False), (1.0, 1),
+                (1, None), 1, "11", ((1, 1), (1, 1))],
+    "shape": [((2, 3), (0, 1)), ((0, 1), (0, 1)), ((1, 0),), ((0, 7),), ((-1, 0),), ((0, 0),), [(0, 1)], ([0, 1],),
+              ((0,),), ((0, 1, 2),), ((False, 1),), ((0, True),), ((0, 1.0),), (0, 1), "01", LONG_SHAPE],
+    "order of seven": [(), (0, 1, 2, 3), (0, 1, 2, 3, 4, 5), (0, 1, 2, 3, 4, 5, 6, 7), (0, 1, 2, 3, 4, 5, 5),
+                       list(SEVEN), (1, 2, 3, 4, 5, 6, 7), (-1, 0, 1, 2, 3, 4, 5), (6, 5, 4, 3, 2, True, 0),
+                       (6, 5, 4, 3, 2, 1, False),
+                       (6, 5, 4, 3, 2, 1, 0.0), "0123456", range(7)],
 }
 
 ARGUMENTS = {
@@ -41,7 +69,41 @@ ARGUMENTS = {
     nets.odd_points: ("net", "wishes"),
     made.renamed: ("net", "wishes", "order"),
     made.put_together: ("net", "wishes", "one", "other"),
+    single.most: ("net", "one", "other"),
+    single.bundle: ("net", "one", "other"),
+    single.accepts_bundle: ("net", "one", "other", "value"),
+    single.amount_evidence: ("net", "one", "other", "amount"),
+    single.accepts_amount: ("net", "one", "other", "amount", "value"),
+    single.least_fences: ("net", "one", "other"),
+    single.sides: ("net", "one", "other"),
+    single.narrower_roads: ("net", "one", "other"),
+    single.wider_roads: ("net", "one", "other"),
+    tables.table: ("net",),
+    tables.tree: ("net",),
+    tables.numbers_evidence: ("points", "numbers"),
+    tables.accepts_numbers: ("points", "numbers", "value"),
+    pairs.bounds: ("net", "pair", "other pair"),
+    pairs.bound_fences: ("net", "pair", "other pair"),
+    pairs.go_together: ("net", "pair", "other pair", "amounts"),
+    pairs.most_beside: ("net", "pair", "other pair", "amount"),
+    pairs.together_evidence: ("net", "pair", "other pair", "amounts"),
+    pairs.accepts_together: ("net", "pair", "other pair", "amounts", "value"),
+    pairs.greatest_amounts: ("net", "pair", "other pair"),
+    pairs.count_amounts: ("net", "pair", "other pair"),
+    shapes.is_enough: ("shape",),
+    shapes.shape_evidence: ("shape",),
+    shapes.accepts_shape: ("shape", "value"),
+    shapes.least_parts: ("shape",),
+    shapes.greatest_parts: ("shape",),
+    shapes.put_away: ("shape",),
+    shapes.may_join: ("shape", "points"),
+    shapes.renamed_shape: ("shape", "order of seven"),
 }
+
+
+def wrong_for(name):
+    """Return what is wrong for an argument; for a value that is judged nothing is."""
+    return [] if name == "value" else [*WRONG[name], *ODD_KINDS]
 
 
 class TestWrongArguments(unittest.TestCase):
@@ -60,18 +122,26 @@ class TestWrongArguments(unittest.TestCase):
     def test_each_wrong_argument_alone(self):
         for function, names in ARGUMENTS.items():
             for index, name in enumerate(names):
-                for wrong in [*WRONG[name], *ODD_KINDS]:
+                for wrong in wrong_for(name):
                     arguments = [RIGHT[other] for other in names]
                     arguments[index] = wrong
-                    self.raises(function, arguments, name)
+                    self.raises(function, arguments, name.split()[0])
 
     def test_each_wrong_argument_with_all_later_ones_wrong(self):
         for function, names in ARGUMENTS.items():
             for index, name in enumerate(names):
-                for number, wrong in enumerate([*WRONG[name], *ODD_KINDS]):
-                    later = [WRONG[other][number % len(WRONG[other])] for other in names[index + 1:]]
+                for number, wrong in enumerate(wrong_for(name)):
+                    later = [ODD_KINDS if other == "value" else WRONG[other] for other in names[index + 1:]]
                     earlier = [RIGHT[other] for other in names[:index]]
-                    self.raises(function, [*earlier, wrong, *later], name)
+                    arguments = [*earlier, wrong, *[choices[number % len(choices)] for choices in later]]
+                    self.raises(function, arguments, name.split()[0])
+
+    def test_values_that_are_judged_raise_nothing(self):
+        for function, names in ARGUMENTS.items():
+            if names[-1] == "value":
+                earlier = [RIGHT[other] for other in names[:-1]]
+                for value in ODD_KINDS:
+                    self.assertIs(function(*earlier, value), False)
 
     def test_the_judges_need_a_net(self):
         for judge, right in ((nets.are_wishes, ACROSS), (nets.is_fence, (1,))):
@@ -101,7 +171,8 @@ class TestWrongArguments(unittest.TestCase):
     def test_wrong_arguments_come_ahead_of_the_two_points(self):
         bare = (2, ())
         for arguments, name in (([(2, []), (), 0, 1], "net"), ([bare, None, 0, 1], "wishes"), ([bare, (), 2, 1], "one"),
-                                ([bare, (), 0, 2], "other"), ([bare, (), 1, 1], "other"), ([bare, (), 0, True], "other")):
+                                ([bare, (), 0, 2], "other"), ([bare, (), 1, 1], "other"),
+                                ([bare, (), 0, True], "other")):
             self.raises(made.put_together, arguments, name)
         with self.assertRaises(NotPossible) as caught:
             made.put_together(bare, (), 0, 1)
@@ -111,11 +182,53 @@ class TestWrongArguments(unittest.TestCase):
         links = ((0, 2, 4), (1, 2, 3))
         net = (3, links)
         for arguments, name in (([list(net), links, 0, 1], "net"), ([net, list(links), 0, 1], "wishes"),
-                                ([net, links, False, 1], "one"), ([net, links, 0, 0], "other"), ([net, links, 0, 3], "other")):
+                                ([net, links, False, 1], "one"), ([net, links, 0, 0], "other"),
+                                ([net, links, 0, 3], "other")):
             self.raises(made.put_together, arguments, name)
         with self.assertRaises(TooLarge) as caught:
             made.put_together(net, links, 0, 1)
         self.assertEqual(caught.exception.what, "width")
+
+    def test_wrong_arguments_come_ahead_of_too_much_for_the_other_pair(self):
+        right = [RING, (0, 2), (1, 3), 3]
+        for index, wrong, name in ((0, LIST_NET, "net"), (1, (2, 0), "pair"), (2, (0, 2), "other"), (3, 41, "amount")):
+            self.raises(pairs.most_beside, [*right[:index], wrong, *right[index + 1:]], name)
+        for amount in (3, 40):
+            with self.assertRaises(NotPossible) as caught:
+                pairs.most_beside(*right[:3], amount)
+            self.assertEqual(caught.exception.why, "amount")
+        self.assertEqual(pairs.most_beside(*right[:3], 2), 0)
+
+    def test_what_is_let(self):
+        seven = (7, tuple((one, 6, 6) for one in range(6)))
+        for amount in (0, 40):
+            single.amount_evidence(seven, 0, 6, amount)
+            single.accepts_amount(seven, 5, 6, amount, None)
+            pairs.go_together(seven, (0, 6), (5, 6), (amount, 40 - amount))
+            pairs.together_evidence(seven, (0, 6), (5, 6), (amount, amount))
+            pairs.accepts_together(seven, (0, 6), (5, 6), (40, amount), None)
+        self.assertEqual(pairs.most_beside(seven, (0, 6), (5, 6), 0), 6)
+        self.assertEqual(pairs.most_beside(seven, (0, 5), (1, 5), 6), 0)
+        for points in range(2, 8):
+            zeros = tuple((one, other, 0) for one in range(points) for other in range(one + 1, points))
+            sixes = tuple((one, other, 6) for one, other, _ in zeros)
+            tables.numbers_evidence(points, zeros)
+            tables.accepts_numbers(points, sixes, None)
+            shapes.may_join((), points)
+        ten = LONG_SHAPE[:10]
+        for function in (shapes.is_enough, shapes.shape_evidence, shapes.least_parts, shapes.greatest_parts,
+                         shapes.put_away):
+            function(ten)
+            function(())
+
+    def test_a_pair_may_come_after_the_other_one_and_share_a_point(self):
+        self.assertEqual(pairs.bounds(RING, (1, 3), (0, 2)), (2, 2, 2))
+        self.assertEqual(pairs.bounds(RING, (0, 2), (0, 1)), (2, 2, 2))
+
+    def test_numbers_for_other_points(self):
+        self.raises(tables.numbers_evidence, [3, NUMBERS], "numbers")
+        self.raises(tables.accepts_numbers, [5, NUMBERS, None], "numbers")
+        self.raises(tables.numbers_evidence, [2, ()], "numbers")
 
     def test_wrong_arguments_are_not_changed(self):
         net, wishes, order = [4, [[0, 1, 1]]], [[0, 1, 1]], [0, 1, 2, 3]

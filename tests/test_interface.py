@@ -4,7 +4,8 @@ import doctest
 import inspect
 import unittest
 
-from wishshapes import errors, made, nets
+import examples
+from wishshapes import errors, made, nets, pairs, shapes, single, tables
 
 LISTED = {
     nets: {
@@ -14,29 +15,36 @@ LISTED = {
         "first_weak": ["net", "wishes"], "widths_at": ["net"], "odd_points": ["net", "wishes"], "parts": ["net"],
     },
     made: {"renamed": ["net", "wishes", "order"], "put_together": ["net", "wishes", "one", "other"]},
+    single: {
+        "most": ["net", "one", "other"], "bundle": ["net", "one", "other"],
+        "accepts_bundle": ["net", "one", "other", "value"], "amount_evidence": ["net", "one", "other", "amount"],
+        "accepts_amount": ["net", "one", "other", "amount", "value"], "least_fences": ["net", "one", "other"],
+        "sides": ["net", "one", "other"], "narrower_roads": ["net", "one", "other"],
+        "wider_roads": ["net", "one", "other"],
+    },
+    tables: {
+        "table": ["net"], "tree": ["net"], "numbers_evidence": ["points", "numbers"],
+        "accepts_numbers": ["points", "numbers", "value"],
+    },
+    pairs: {
+        "bounds": ["net", "pair", "other"], "bound_fences": ["net", "pair", "other"],
+        "go_together": ["net", "pair", "other", "amounts"], "most_beside": ["net", "pair", "other", "amount"],
+        "together_evidence": ["net", "pair", "other", "amounts"],
+        "accepts_together": ["net", "pair", "other", "amounts", "value"],
+        "greatest_amounts": ["net", "pair", "other"], "count_amounts": ["net", "pair", "other"],
+    },
+    shapes: {
+        "is_shape": ["value"], "is_enough": ["shape"], "shape_evidence": ["shape"],
+        "accepts_shape": ["shape", "value"], "least_parts": ["shape"], "greatest_parts": ["shape"],
+        "put_away": ["shape"], "may_join": ["shape", "points"], "renamed_shape": ["shape", "order"],
+    },
 }
 
 CLASSES = {"WishError": None, "BadValue": ["name"], "TooLarge": ["what"], "NotPossible": ["why"],
            "TextError": ["column", "words"]}
 
-EXAMPLES = """
->>> from wishshapes.made import put_together, renamed
->>> from wishshapes.nets import fence_of, fences, load, odd_points, parts, room, tight_fences, weak_fences, width, widths_at
->>> ring = (4, ((0, 1, 1), (0, 3, 1), (1, 2, 1), (2, 3, 1)))
->>> across = ((0, 2, 1), (1, 3, 1))
->>> fences(ring)
-[(1,), (1, 2), (1, 2, 3), (1, 3), (2,), (2, 3), (3,)]
->>> [room(ring, across, fence) for fence in fences(ring)], tight_fences(ring, across), weak_fences(ring, ((0, 2, 2), (1, 3, 1)))
-([1, 0, 1, 4, 1, 0, 1], [(1, 2), (2, 3)], [(1, 2), (2, 3)])
->>> width(ring, (1, 3)), load(ring, across, (1, 3)), fence_of(ring, (0, 2)), odd_points(ring, across), odd_points(ring, across[:1])
-(4, 0, (1, 3), (0, 1, 2, 3), (0, 2))
->>> widths_at((3, ((0, 2, 5),))), parts((3, ((0, 2, 5),))), parts((2, ()))
-((5, 0, 5), ((0, 2), (1,)), ((0,), (1,)))
->>> renamed(ring, across, (1, 0, 2, 3))
-((4, ((0, 1, 1), (0, 2, 1), (1, 3, 1), (2, 3, 1))), ((0, 3, 1), (1, 2, 1)))
->>> put_together(ring, across, 1, 3)
-((3, ((0, 1, 2), (1, 2, 2))), ((0, 2, 1),))
-"""
+# The examples of each section, and how many there are.
+EXAMPLES = ((examples.MADE, 10), (examples.TABLES, 11), (examples.PAIRS, 8), (examples.SHAPES, 7))
 
 
 class TestInterface(unittest.TestCase):
@@ -53,6 +61,11 @@ class TestInterface(unittest.TestCase):
         self.assertEqual(nets.room(net=ring, wishes=across, fence=(1,)), 1)
         self.assertEqual(nets.fence_of(net=ring, some=(0,)), (1, 2, 3))
         self.assertEqual(made.put_together(net=ring, wishes=(), one=0, other=2)[0], (3, ((0, 1, 2), (0, 2, 2))))
+        self.assertIs(single.accepts_amount(net=ring, one=0, other=2, amount=0, value=("ways", ())), True)
+        self.assertIs(tables.accepts_numbers(points=2, numbers=((0, 1, 0),), value=("roads", ())), True)
+        self.assertIs(pairs.go_together(net=ring, pair=(0, 2), other=(1, 3), amounts=(1, 1)), True)
+        self.assertEqual(pairs.most_beside(net=ring, pair=(0, 2), other=(1, 3), amount=1), 1)
+        self.assertEqual(shapes.may_join(shape=(), points=2), ((0, 1),))
 
     def test_classes(self):
         for name, arguments in CLASSES.items():
@@ -63,10 +76,11 @@ class TestInterface(unittest.TestCase):
                 self.assertEqual(list(inspect.signature(found).parameters), arguments)
 
     def test_examples(self):
-        test = doctest.DocTestParser().get_doctest(EXAMPLES, {}, "examples", None, 0)
-        runner = doctest.DocTestRunner()
-        runner.run(test)
-        self.assertEqual((runner.failures, runner.tries), (0, 10))
+        for text, many in EXAMPLES:
+            test = doctest.DocTestParser().get_doctest(text, {}, "examples", None, 0)
+            runner = doctest.DocTestRunner()
+            runner.run(test)
+            self.assertEqual((runner.failures, runner.tries), (0, many))
 
 
 class TestPoint21(unittest.TestCase):

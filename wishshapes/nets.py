@@ -23,19 +23,32 @@ def is_tuple(value, least, most):
     return type(value) == tuple and least <= len(value) <= most
 
 
+def is_number(value, least):
+    """Tell whether the value is an integer from the least one on."""
+    return type(value) == int and value >= least
+
+
+def is_word(value, word):
+    """Tell whether the value is this string."""
+    return type(value) == str and value == word
+
+
 def is_ascending(items):
     """Tell whether each item is less than the next one; the items are ones that can be compared."""
     return all([low < high for low, high in zip(items, items[1:])])
 
 
+def is_pair(value, points):
+    """Tell whether the value is a pair of two of so many points, the lesser one first."""
+    if not is_tuple(value, 2, 2):
+        return False
+    one, other = value
+    return is_within(one, 0, points - 1) and is_within(other, one + 1, points - 1)
+
+
 def is_link(value, points, most):
     """Tell whether the value is two points, the lesser one first, and an integer from 1 to the most."""
-    if not is_tuple(value, 3, 3):
-        return False
-    one, other, number = value
-    if not is_within(one, 0, points - 1) or not is_within(other, one + 1, points - 1):
-        return False
-    return is_within(number, 1, most)
+    return is_tuple(value, 3, 3) and is_pair(value[:2], points) and is_within(value[2], 1, most)
 
 
 def are_links(value, points, many, most):
@@ -101,9 +114,14 @@ def need_two_points(net, one, other):
         raise BadValue("other")
 
 
+def is_parted(fence, one, other):
+    """Tell whether exactly one of the two points is in the fence."""
+    return (one in fence) != (other in fence)
+
+
 def crossing(links, fence):
     """Add up the numbers of the roads, or wishes, that cross the fence."""
-    return sum([number for one, other, number in links if (one in fence) != (other in fence)])
+    return sum([number for one, other, number in links if is_parted(fence, one, other)])
 
 
 def room_left(net, wishes, fence):

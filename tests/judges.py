@@ -1,0 +1,68 @@
+"""Judges that add up on their own, apart from the program, to hold its answers against."""
+
+from fractions import Fraction
+
+from samples import crosses, masks, steps, sum_across
+
+
+def is_right_path(net, one, other, path):
+    """Tell whether the path, whose form is right, leads along the roads of the net from the one to the other."""
+    joined = [road[:2] for road in net[1]]
+    if path[0] != one or path[-1] != other or len(path) < 2 or len(set(path)) < len(path):
+        return False
+    return all(step in joined for step in steps(path))
+
+
+def fit_in(net, loads):
+    """Tell whether the amounts of the pairs (path, amount) are, at each road, at most its width."""
+    for one, other, width in net[1]:
+        if sum(amount for path, amount in loads if (one, other) in steps(path)) > width:
+            return False
+    return True
+
+
+def is_right_bundle(net, one, other, bundle):
+    """Tell whether the tuple of pairs (path, integer) is a bundle."""
+    if not all(amount >= 1 and is_right_path(net, one, other, path) for path, amount in bundle):
+        return False
+    return fit_in(net, bundle)
+
+
+def as_fraction(pair):
+    """Return the number that the pair stands for."""
+    return Fraction(pair[0], pair[1])
+
+
+def are_right_ways(net, wishes, ways):
+    """Tell whether ways, whose form is right, meet these wishes; an amount may be 0."""
+    for index, path, _ in ways:
+        if not is_right_path(net, wishes[index][0], wishes[index][1], path):
+            return False
+    sums = [sum(as_fraction(amount) for index, _, amount in ways if index == wish) for wish in range(len(wishes))]
+    if sums != [wish[2] for wish in wishes]:
+        return False
+    return fit_in(net, [(path, as_fraction(amount)) for _, path, amount in ways])
+
+
+def parting(net, pairs):
+    """Return all fences that part each of these pairs, in order."""
+    return [fence for fence in masks(net[0]) if all(crosses(pair, fence) for pair in pairs)]
+
+
+def least_width(net, pairs):
+    """Return the least width of a fence that parts each of these pairs; widths may be more than 6 here."""
+    return min(sum_across(net[1], fence) for fence in parting(net, pairs))
+
+
+def changed_road(net, index, step):
+    """Return the net with the width of the road greater by the step; a road of the width 0 is gone."""
+    points, roads = net
+    one, other, width = roads[index]
+    new = ((one, other, width + step),) if width + step > 0 else ()
+    return points, roads[:index] + new + roads[index + 1:]
+
+
+def with_road(net, one, other):
+    """Return the net with a new road of the width 1 between two points that are not joined."""
+    points, roads = net
+    return points, tuple(sorted(roads + ((one, other, 1),)))
