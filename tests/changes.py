@@ -55,3 +55,8 @@ def doubled(value):
 def shuffled(value):
     """Return the tuple in other sequences."""
     return [other for other in permutations(value[:4]) if other != value[:4]]
+
+
+def form_of(value):
+    """Return the types of which the value is made."""
+    return [form_of(item) for item in value] if type(value) is tuple else type(value)

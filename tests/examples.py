@@ -67,3 +67,48 @@ SHAPES = """
 >>> accepts_shape(ring, ("enough", "ring", (3, 2, 1, 0, 4))), accepts_shape(both, ("not", "triangle", both[::-1]))
 (True, False)
 """
+
+MEETING = """
+>>> from wishshapes.meeting import accepts_meeting, is_met, meeting_evidence, most_along, taken
+>>> ring = (4, ((0, 1, 1), (0, 3, 1), (1, 2, 1), (2, 3, 1)))
+>>> across = ((0, 2, 1), (1, 3, 1))
+>>> is_met(ring, across), most_along(ring, across, 0, (0, 1, 2)), taken(ring, across, 0, (0, 1, 2), 1)
+(True, 0, ((4, ((0, 3, 1), (2, 3, 1))), ((1, 3, 1),)))
+>>> halves = ((0, (0, 1, 2), (1, 2)), (0, (0, 3, 2), (1, 2)), (1, (1, 0, 3), (1, 2)), (1, (1, 2, 3), (1, 2)))
+>>> accepts_meeting(ring, across, ("ways", halves)), accepts_meeting(ring, across, ("fence", (1,)))
+(True, False)
+>>> meeting_evidence(ring, ((0, 2, 3),)), is_met((2, ()), ((0, 1, 1),)), meeting_evidence((2, ()), ((0, 1, 1),))
+(('fence', (1, 2)), False, ('fence', (1,)))
+"""
+
+AGAINST = """
+>>> from wishshapes.against import accepts_against, multiplied, net_against, renamed_against
+>>> both = ((0, 1), (0, 2), (1, 2), (3, 4))
+>>> told = net_against(both)
+>>> told[:2]
+((5, ((0, 3, 1), (0, 4, 1), (1, 3, 1), (1, 4, 1), (2, 3, 1), (2, 4, 1))), ((0, 1, 1), (0, 2, 1), (1, 2, 1), (3, 4, 1)))
+>>> told[2:], accepts_against(both, told), accepts_against(both[1:], told)
+(((1, 1, 1, 1, 1, 1), ((0, 2, 2, 1, 1), (0, 2, 2, 1, 1), (2, 0, 2, 1, 1), (1, 1, 1, 0, 2))), True, False)
+>>> renamed_against(both, told, (4, 3, 2, 1, 0))[1:]
+(((0, 1, 1), (2, 3, 1), (2, 4, 1), (3, 4, 1)), (1, 1, 1, 1, 1, 1), ((0, 2, 1, 1, 1), (1, 1, 0, 2, 0), (1, 1, 0, 0, 2), (1, 1, 0, 0, 2)))
+>>> net_against(((0, 1), (2, 3), (4, 5)))[:2]
+((6, ((0, 2, 1), (0, 3, 1), (0, 4, 1), (1, 2, 1), (1, 3, 1), (1, 4, 1), (2, 5, 1), (3, 5, 1))), ((0, 1, 1), (2, 3, 1), (4, 5, 2)))
+>>> net_against(both + ((4, 5),))[2], net_against(both + ((5, 6),))[2], multiplied(both, told, 2)[2]
+((1, 1, 1, 1, 1, 1, 1), (1, 1, 1, 1, 3, 1, 1, 1, 1, 1), (2, 2, 2, 2, 2, 2))
+"""
+
+LENGTHS = """
+>>> from wishshapes.lengths import accepts_evidence, can_be_met, lengths_of, need, rise_from, told_evidence, worth
+>>> net = (5, ((0, 3, 1), (0, 4, 1), (1, 3, 1), (1, 4, 1), (2, 3, 1), (2, 4, 1)))
+>>> wishes = ((0, 1, 1), (0, 2, 1), (1, 2, 1), (3, 4, 1))
+>>> ones = (1, 1, 1, 1, 1, 1)
+>>> rises = (rise_from(net, ones, 0), rise_from(net, ones, 0), rise_from(net, ones, 1), rise_from(net, ones, 3))
+>>> rises
+((0, 2, 2, 1, 1), (0, 2, 2, 1, 1), (2, 0, 2, 1, 1), (1, 1, 1, 0, 2))
+>>> worth(net, ones), need(net, wishes, ones, rises), accepts_evidence(net, wishes, ("lengths", ones, rises))
+(6, 8, True)
+>>> can_be_met(net, wishes), can_be_met(net, wishes[:3]), told_evidence(net, ()), told_evidence(net, ((0, 1, 3),))
+(False, True, ('ways', ()), ('fence', (1,)))
+>>> lengths_of(net, wishes, (1, 3))
+((1, 0, 0, 1, 1, 0), ((0, 1, 0, 1, 0), (0, 0, 0, 0, 0), (1, 0, 1, 0, 1), (1, 0, 1, 0, 1)))
+"""

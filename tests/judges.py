@@ -66,3 +66,46 @@ def with_road(net, one, other):
     """Return the net with a new road of the width 1 between two points that are not joined."""
     points, roads = net
     return points, tuple(sorted(roads + ((one, other, 1),)))
+
+
+def distances(net, lengths):
+    """Return for each two points the least sum of lengths of a path between them, or None."""
+    points = range(net[0])
+    table = {(one, other): 0 if one == other else None for one in points for other in points}
+    for (one, other, _), length in zip(net[1], lengths):
+        table[one, other] = table[other, one] = length
+    for middle in points:
+        for one in points:
+            for other in points:
+                parts = (table[one, middle], table[middle, other])
+                if None not in parts and (table[one, other] is None or sum(parts) < table[one, other]):
+                    table[one, other] = sum(parts)
+    return table
+
+
+def is_right_rise(net, lengths, rise):
+    """Tell whether the numbers of two joined points differ by at most the length of their road."""
+    return all(abs(rise[one] - rise[other]) <= length for (one, other, _), length in zip(net[1], lengths))
+
+
+def some_rise(net, lengths, chance):
+    """Return some rise by the lengths; its numbers may be less than 0."""
+    table, start = distances(net, lengths), [chance.randint(-5, 5) for _ in range(net[0])]
+    return tuple(min(start[other] + table[one, other] for other in range(net[0]) if table[one, other] is not None)
+                 for one in range(net[0]))
+
+
+def needed(wishes, rises):
+    """Return the need, added up."""
+    return sum(amount * (rise[other] - rise[one]) for (one, other, amount), rise in zip(wishes, rises))
+
+
+def worth_by(net, lengths):
+    """Return the worth, added up."""
+    return sum(road[2] * length for road, length in zip(net[1], lengths))
+
+
+def rises_from(net, wishes, lengths):
+    """Return for each wish the rise from its lesser point."""
+    table = distances(net, lengths)
+    return tuple(tuple(table[wish[0], point] or 0 for point in range(net[0])) for wish in wishes)

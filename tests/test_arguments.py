@@ -1,9 +1,9 @@
-"""Points 8, 20, 33, 43 and 55: wrong arguments, the first one first, ahead of all other errors."""
+"""Points 8, 20, 33, 43, 55, 66, 80 and 91: wrong arguments, the first one first, ahead of all other errors."""
 
 import unittest
 
 from samples import ACROSS, ODD_KINDS, RING
-from wishshapes import made, nets, pairs, shapes, single, tables
+from wishshapes import against, lengths, made, meeting, nets, pairs, shapes, single, tables
 from wishshapes.errors import BadValue, NotPossible, TooLarge, WishError
 
 TRUE_NET = (4, ((0, True, 1), (0, 3, 1), (1, 2, 1), (2, 3, 1)))
@@ -13,12 +13,18 @@ LONG = tuple((one, other, 1) for one in range(3) for other in range(one + 1, 7))
 LONG_SHAPE = tuple(link[:2] for link in LONG)
 NUMBERS = ((0, 1, 4), (0, 2, 3), (0, 3, 0), (1, 2, 3), (1, 3, 0), (2, 3, 0))
 SEVEN = (6, 5, 4, 3, 2, 1, 0)
+BOTH = ((0, 1), (0, 2), (1, 2), (3, 4))
+TOLD = ((5, ((0, 3, 1), (0, 4, 1), (1, 3, 1), (1, 4, 1), (2, 3, 1), (2, 4, 1))),
+        ((0, 1, 1), (0, 2, 1), (1, 2, 1), (3, 4, 1)), (1, 1, 1, 1, 1, 1),
+        ((0, 2, 2, 1, 1), (0, 2, 2, 1, 1), (2, 0, 2, 1, 1), (1, 1, 1, 0, 2)))
 
 # Where functions ask different things of an argument of the same name, a further word tells them apart.
 RIGHT = {
     "net": RING, "wishes": ACROSS, "fence": (1, 2), "some": (0, 2), "order": (1, 0, 2, 3), "one": 1, "other": 3,
     "amount": 2, "points": 4, "numbers": NUMBERS, "pair": (0, 2), "other pair": (1, 3), "amounts": (1, 1),
-    "shape": ((0, 1), (2, 3)), "order of seven": SEVEN, "value": None,
+    "shape": ((0, 1), (2, 3)), "order of seven": SEVEN, "value": None, "wish": 0, "path": (0, 1, 2),
+    "amount of a way": 1, "lengths": (1, 1, 1, 1), "rises": ((0, 1, 2, 1), (1, 0, 1, 2)), "point": 3,
+    "shape against": BOTH, "value against": TOLD, "order of five": (4, 3, 2, 1, 0), "factor": 2,
 }
 
 # For each argument what is wrong for it while all the others are right.
@@ -40,7 +46,8 @@ WRONG = {
                 NUMBERS + NUMBERS[:1], ((0, 1, 7), *NUMBERS[1:]), ((0, 1, -1), *NUMBERS[1:]),
                 ((0, 1, True), *NUMBERS[1:]),
                 ((0, True, 4), *NUMBERS[1:]), ((False, 1, 4), *NUMBERS[1:]), ((1, 0, 4), *NUMBERS[1:]),
-                ([0, 1, 4], *NUMBERS[1:]), ((0, 1), *NUMBERS[1:]), ((0, 1, 4, 0), *NUMBERS[1:]), ((0, 1, 4.0), *NUMBERS[1:]),
+                ([0, 1, 4], *NUMBERS[1:]), ((0, 1), *NUMBERS[1:]), ((0, 1, 4, 0), *NUMBERS[1:]),
+                ((0, 1, 4.0), *NUMBERS[1:]),
                 (None, *NUMBERS[1:]),
                 (NUMBERS[1], NUMBERS[0], *NUMBERS[2:]), (*NUMBERS[:5], (2, 4, 0)), ((0, 1, 1), (0, 2, 1), (1, 2, 1))],
     "pair": [(2, 0), (0, 0), (0, 4), (-1, 2), (0,), (0, 1, 2), [0, 2], (False, 2), (0, True), (0, 2.0), "02", 2, ()],
@@ -53,6 +60,25 @@ WRONG = {
                        list(SEVEN), (1, 2, 3, 4, 5, 6, 7), (-1, 0, 1, 2, 3, 4, 5), (6, 5, 4, 3, 2, True, 0),
                        (6, 5, 4, 3, 2, 1, False),
                        (6, 5, 4, 3, 2, 1, 0.0), "0123456", range(7)],
+    "wish": [-1, -2, 2, 3, True, False, 0.0, "0", None, (0,), [0]],
+    "path": [(), (0,), (0, 2), (2, 1, 0), (0, 1), (1, 2), (1, 0, 3), (0, 1, 3, 2), (0, 1, 1, 2), (0, 1, 0, 3, 2),
+             (0, 1, 2, 3), (0, 4, 2), (0, -3, 2), (0, True, 2), (False, 1, 2), (0, 1, 2.0), [0, 1, 2], "012", 0],
+    "amount of a way": [0, -1, True, False, 1.0, "1", None, (1,), [1], (1, 1)],
+    "lengths": [(), (1, 1, 1), (1, 1, 1, 1, 1), [1, 1, 1, 1], (-1, 1, 1, 1), (1, 1, 1, -1), (True, 1, 1, 1),
+                (1, 1, 1, False), (1, 1.0, 1, 1), (1, None, 1, 1), ((1,), 1, 1, 1), "1111", 4],
+    "rises": [(), ((0, 1, 2, 1),), ((0, 1, 2, 1),) * 3, [(0, 1, 2, 1), (1, 0, 1, 2)], ([0, 1, 2, 1], (1, 0, 1, 2)),
+              ((0, 1, 2, 1), (1, 0, 1)), ((0, 1, 2, 1), (1, 0, 1, 2, 3)), ((0, 2, 2, 1), (1, 0, 1, 2)),
+              ((0, 1, 2, 1), (1, 0, 1, 3)), ((0, 1, 2, 1), (1, 0, 1, True)), ((False, 1, 2, 1), (1, 0, 1, 2)),
+              ((0, 1, 2, 1.0), (1, 0, 1, 2)), ((0, 1, 2, None), (1, 0, 1, 2)), ((0, 1, 2, 1), None), (0, 1, 2, 1)],
+    "point": [-1, 4, 5, True, False, 3.0, "3", None, (3,), [3]],
+    "shape against": [((2, 3), (0, 1)), ((0, 1), (0, 1)), ((1, 0),), ((0, 7),), ((0, 0),), list(BOTH), ((0, True),)],
+    "value against": [(), TOLD[:3], (*TOLD, ()), list(TOLD), TOLD[::-1], (*TOLD[:3], list(TOLD[3])),
+                      (TOLD[0], TOLD[1][:3], TOLD[2], TOLD[3][:3]), (*TOLD[:2], (1,) * 5, TOLD[3]),
+                      (*TOLD[:2], (2, 1, 1, 1, 1, 1), ((0, 2, 2, 1, 1),) * 3 + TOLD[3][3:]), ((5, ()), *TOLD[1:]),
+                      (*TOLD[:2], (True,) * 6, TOLD[3]), (*TOLD[:3], ((0, 0, 0, 0, 0),) * 4)],
+    "order of five": [(), (0, 1, 2, 3), (0, 1, 2, 3, 4, 5), (0, 1, 2, 3, 3), [4, 3, 2, 1, 0], (5, 4, 3, 2, 1), SEVEN,
+                      (4, 3, 2, True, 0), (4, 3, 2, 1, False), (4, 3, 2, 1, 0.0), "01234", range(5)],
+    "factor": [0, -1, 7, 8, True, False, 2.0, "2", None, (2,), [2]],
 }
 
 ARGUMENTS = {
@@ -98,12 +124,32 @@ ARGUMENTS = {
     shapes.put_away: ("shape",),
     shapes.may_join: ("shape", "points"),
     shapes.renamed_shape: ("shape", "order of seven"),
+    meeting.taken: ("net", "wishes", "wish", "path", "amount of a way"),
+    meeting.most_along: ("net", "wishes", "wish", "path"),
+    meeting.is_met: ("net", "wishes"),
+    meeting.meeting_evidence: ("net", "wishes"),
+    meeting.accepts_meeting: ("net", "wishes", "value"),
+    against.net_against: ("shape against",),
+    against.accepts_against: ("shape against", "value"),
+    against.renamed_against: ("shape against", "value against", "order of five"),
+    against.multiplied: ("shape against", "value against", "factor"),
+    lengths.worth: ("net", "lengths"),
+    lengths.need: ("net", "wishes", "lengths", "rises"),
+    lengths.lengths_of: ("net", "wishes", "fence"),
+    lengths.rise_from: ("net", "lengths", "point"),
+    lengths.can_be_met: ("net", "wishes"),
+    lengths.told_evidence: ("net", "wishes"),
+    lengths.accepts_evidence: ("net", "wishes", "value"),
 }
 
 
 def wrong_for(name):
     """Return what is wrong for an argument; for a value that is judged nothing is."""
-    return [] if name == "value" else [*WRONG[name], *ODD_KINDS]
+    if name == "value":
+        return []
+    # Any integer from 1 on is an amount, however great.
+    kinds = [kind for kind in ODD_KINDS if name != "amount of a way" or type(kind) is not int or kind < 1]
+    return [*WRONG[name], *kinds]
 
 
 class TestWrongArguments(unittest.TestCase):

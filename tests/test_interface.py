@@ -5,7 +5,7 @@ import inspect
 import unittest
 
 import examples
-from wishshapes import errors, made, nets, pairs, shapes, single, tables
+from wishshapes import against, errors, lengths, made, meeting, nets, pairs, shapes, single, tables
 
 LISTED = {
     nets: {
@@ -38,13 +38,29 @@ LISTED = {
         "accepts_shape": ["shape", "value"], "least_parts": ["shape"], "greatest_parts": ["shape"],
         "put_away": ["shape"], "may_join": ["shape", "points"], "renamed_shape": ["shape", "order"],
     },
+    meeting: {
+        "taken": ["net", "wishes", "wish", "path", "amount"], "most_along": ["net", "wishes", "wish", "path"],
+        "is_met": ["net", "wishes"], "meeting_evidence": ["net", "wishes"],
+        "accepts_meeting": ["net", "wishes", "value"],
+    },
+    against: {
+        "net_against": ["shape"], "accepts_against": ["shape", "value"],
+        "renamed_against": ["shape", "value", "order"], "multiplied": ["shape", "value", "factor"],
+    },
+    lengths: {
+        "worth": ["net", "lengths"], "need": ["net", "wishes", "lengths", "rises"],
+        "lengths_of": ["net", "wishes", "fence"], "rise_from": ["net", "lengths", "point"],
+        "can_be_met": ["net", "wishes"], "told_evidence": ["net", "wishes"],
+        "accepts_evidence": ["net", "wishes", "value"],
+    },
 }
 
 CLASSES = {"WishError": None, "BadValue": ["name"], "TooLarge": ["what"], "NotPossible": ["why"],
            "TextError": ["column", "words"]}
 
 # The examples of each section, and how many there are.
-EXAMPLES = ((examples.MADE, 10), (examples.TABLES, 11), (examples.PAIRS, 8), (examples.SHAPES, 7))
+EXAMPLES = ((examples.MADE, 10), (examples.TABLES, 11), (examples.PAIRS, 8), (examples.SHAPES, 7),
+            (examples.MEETING, 7), (examples.AGAINST, 8), (examples.LENGTHS, 9))
 
 
 class TestInterface(unittest.TestCase):
@@ -66,6 +82,12 @@ class TestInterface(unittest.TestCase):
         self.assertIs(pairs.go_together(net=ring, pair=(0, 2), other=(1, 3), amounts=(1, 1)), True)
         self.assertEqual(pairs.most_beside(net=ring, pair=(0, 2), other=(1, 3), amount=1), 1)
         self.assertEqual(shapes.may_join(shape=(), points=2), ((0, 1),))
+        self.assertEqual(meeting.taken(net=ring, wishes=across, wish=0, path=(0, 1, 2), amount=1)[1], across[1:])
+        self.assertEqual(lengths.need(net=ring, wishes=(), lengths=(0, 0, 0, 0), rises=()), 0)
+        self.assertEqual(lengths.rise_from(net=ring, lengths=(1, 2, 3, 4), point=0), (0, 1, 4, 2))
+        both = ((0, 1), (0, 2), (1, 2), (3, 4))
+        told = against.net_against(shape=both)
+        self.assertEqual(against.multiplied(shape=both, value=told, factor=1), told)
 
     def test_classes(self):
         for name, arguments in CLASSES.items():

@@ -24,6 +24,11 @@ def moved(links, places):
     return tuple([(low, high, sums[low, high]) for low, high in sorted(sums)])
 
 
+def times(links, factor):
+    """Return the roads, or wishes, with all numbers multiplied by the factor."""
+    return tuple([(one, other, number * factor) for one, other, number in links])
+
+
 def has_more(links, most):
     """Tell whether some width, or amount, is greater than the most."""
     return any([link[2] > most for link in links])

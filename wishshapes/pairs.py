@@ -2,6 +2,7 @@
 
 from wishshapes.errors import BadValue, NotPossible
 from wishshapes.flows import even_flow, paths_of
+from wishshapes.made import times
 from wishshapes.nets import are_some, crossing, is_pair, is_tuple, is_within, is_word, need_net
 from wishshapes.parting import narrowest
 from wishshapes.ways import are_meeting, reduced
@@ -60,19 +61,14 @@ def two_flows(points, roads, wishes):
     return sums, rests
 
 
-def doubled(links):
-    """Return the roads, or wishes, with all numbers twice as great."""
-    return tuple([(one, other, 2 * number) for one, other, number in links])
-
-
 def ways_together(net, wishes):
     """Return ways that meet two wishes for which no fence is too weak."""
     # With all numbers twice as great each point is even, and the ways are twice as great, too. If each point was even
     # before, all amounts that even_flow sends are even, and so both flows here are, and the ways are whole ones.
     points, roads = net
     found = []
-    twice = doubled(wishes)
-    for index, flow in enumerate(two_flows(points, doubled(roads), twice)):
+    twice = times(wishes, 2)
+    for index, flow in enumerate(two_flows(points, times(roads, 2), twice)):
         one, other, amount = twice[index]
         for path, part in paths_of(flow, one, other, amount):
             found.append((index, path, reduced(part, 2)))

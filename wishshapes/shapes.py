@@ -98,6 +98,11 @@ def is_told_not(shape, kind, pairs):
     return is_ascending(pairs[:3]) and are_triangle(pairs)
 
 
+def shape_of(wishes):
+    """Return the shape of the wishes."""
+    return tuple([wish[:2] for wish in wishes])
+
+
 def without(shape, pairs):
     """Return the shape without these pairs."""
     return tuple([pair for pair in shape if pair not in pairs])

@@ -42,6 +42,21 @@ def is_path(net, one, other, value):
     return all([step in joined for step in steps(value)])
 
 
+def paths_between(net, one, other):
+    """Return the list of all paths of the net from the one point to the other."""
+    joined = [road[:2] for road in net[1]]
+    found, waiting = [], [(one,)]
+    while waiting:
+        path = waiting.pop()
+        here = path[-1]
+        if here == other:
+            found.append(path)
+        else:
+            near = [there for there in range(net[0]) if (min(here, there), max(here, there)) in joined]
+            waiting.extend([(*path, there) for there in near if there not in path])
+    return found
+
+
 def fit(net, loads):
     """Tell whether, for each road, the fractions of the pairs (path, fraction) along it are at most its width."""
     sums = {}
