@@ -60,12 +60,12 @@ def are_triangle(pairs):
 
 def threes_apart(shape):
     """Return the list of the ascending tuples of three pairs of the shape of which each two are apart."""
-    return [three for three in combinations(shape, 3) if are_apart(three)]
+    return [three for three in combinations(list(shape), 3) if are_apart(three)]
 
 
 def triangles(shape):
     """Return the list of the tuples of a triangle of the shape, ascending, and a pair apart, in order."""
-    return [(*three, pair) for three in combinations(shape, 3) for pair in shape if are_triangle((*three, pair))]
+    return [(*three, pair) for three in combinations(list(shape), 3) for pair in shape if are_triangle((*three, pair))]
 
 
 def are_points(value, many):
