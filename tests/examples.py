@@ -112,3 +112,75 @@ LENGTHS = """
 >>> lengths_of(net, wishes, (1, 3))
 ((1, 0, 0, 1, 1, 0), ((0, 1, 0, 1, 0), (0, 0, 0, 0, 0), (1, 0, 1, 0, 1), (1, 0, 1, 0, 1)))
 """
+
+ENDS = """
+>>> from wishshapes.ends import accepts_ends, ends_evidence, greatest_total, reach
+>>> star = (4, ((0, 3, 1), (1, 3, 1), (2, 3, 1)))
+>>> reach(star, (0, 1, 2), 0), reach(star, (0, 1, 2), 1), greatest_total(star, (0, 1, 2)), greatest_total(star, (0, 1))
+((1, (1, 2, 3)), (1, (1,)), (3, 2), (1, 1))
+>>> halves = (((0, 3, 1), (1, 2)), ((0, 3, 2), (1, 2)), ((1, 3, 2), (1, 2)))
+>>> accepts_ends(star, (0, 1, 2), (halves, ((1, 2, 3), (1,), (2,)))), accepts_ends(star, (0, 1, 2), (halves[:2], ((1, 2, 3), (1,), (2,))))
+(True, False)
+>>> accepts_ends(star, (0, 1), ends_evidence(star, (0, 1))), ends_evidence((2, ()), (0, 1)), greatest_total((3, ((0, 1, 4), (1, 2, 3))), (0, 1, 2))
+(True, ((), ((1,), (1,))), (7, 1))
+"""
+
+SHARES = """
+>>> from wishshapes.shares import accepts_share, greatest_share, least_quotient
+>>> net = (5, ((0, 3, 1), (0, 4, 1), (1, 3, 1), (1, 4, 1), (2, 3, 1), (2, 4, 1)))
+>>> wishes = ((0, 1, 1), (0, 2, 1), (1, 2, 1), (3, 4, 1))
+>>> greatest_share(net, wishes), least_quotient(net, wishes), greatest_share(net, wishes[3:])
+((3, 4), ((1, 1), (1,)), (3, 1))
+>>> path = (3, ((0, 1, 2),))
+>>> greatest_share(path, ((0, 1, 1), (0, 2, 1))), least_quotient(path, ((0, 1, 1), (0, 2, 1)))
+((0, 1), ((0, 1), (2,)))
+>>> accepts_share(path, ((0, 1, 1),), ("share", (2, 1), ((0, (0, 1), (2, 1)),), (1,), ((0, 1, 0),)))
+True
+"""
+
+ROOMS = """
+>>> from wishshapes.rooms import accepts_clash, accepts_road, accepts_wish, clashes, given_up, road_room, room_between, room_for, room_tree, sure_wishes, wish_evidence, wish_room
+>>> row = (3, ((0, 1, 3), (1, 2, 2)))
+>>> wishes = ((0, 2, 1),)
+>>> room_between(row, wishes, 0, 1), room_between(row, wishes, 1, 2), room_tree(row, wishes), room_for(row, wishes, 0, 1)
+(2, 1, ((0, 1, 2), (0, 2, 1)), 2)
+>>> road_room(row, wishes, 0), road_room(row, wishes, 1), wish_room(row, wishes, 0), accepts_wish(row, wishes, 0, wish_evidence(row, wishes, 0))
+(2, 1, 1, True)
+>>> accepts_road(row, wishes, 0, (2, ((0, (0, 1, 2), (1, 1)),), (1, 2))), accepts_road(row, (), 1, (2, (), None))
+(True, True)
+>>> ring = (4, ((0, 1, 1), (0, 3, 1), (1, 2, 1), (2, 3, 1)))
+>>> three = ((0, 1, 1), (0, 2, 1), (1, 3, 1))
+>>> clashes(ring, three), sure_wishes(ring, three), given_up(ring, three), clashes(ring, ((0, 1, 3), (0, 2, 1))), sure_wishes(ring, ((0, 1, 3), (0, 2, 1)))
+([(0, 1, 2)], (), (0,), [(0,)], (1,))
+>>> accepts_clash(ring, three, (0, 1, 2), ((1, 2), ((), (), ()))), accepts_clash(ring, ((0, 1, 3), (0, 2, 1)), (0,), ((1,), ((),)))
+(False, True)
+"""
+
+TEXTS = """
+>>> from wishshapes.reading import next_tokens, read_task, read_ways
+>>> from wishshapes.writing import task_text, ways_text
+>>> read_task("3: 0-1 2, 1-2 1; 0-2 1"), read_task("2:"), read_task("2:;0-1 06")
+(((3, ((0, 1, 2), (1, 2, 1))), ((0, 2, 1),)), ((2, ()), ()), ((2, ()), ((0, 1, 6),)))
+>>> net, wishes = read_task("4: 0-1 1, 0-3 1, 1-2 1, 2-3 1; 0-2 1, 1-3 1")
+>>> task_text(net, wishes), task_text((2, ()), ((0, 1, 6),))
+('4: 0-1 1, 0-3 1, 1-2 1, 2-3 1; 0-2 1, 1-3 1', '2:; 0-1 6')
+>>> read_ways(net, wishes, "0: 0-1-2 1/2; 0: 0-3-2 1/2"), read_ways(net, wishes, "")
+(((0, (0, 1, 2), (1, 2)), (0, (0, 3, 2), (1, 2))), ())
+>>> ways_text(net, wishes, ((1, (1, 0, 3), (2, 1)), (1, (1, 2, 3), (1, 2))))
+'1: 1-0-3 2; 1: 1-2-3 1/2'
+>>> next_tokens("4: 0-1 1", "task"), next_tokens("4:", "task"), next_tokens("0: 0-1", "ways"), next_tokens("0: 0-1 1", "ways")
+(['","', '";"', 'the end'], ['a number', '";"', 'the end'], ['a number', '"-"'], ['";"', '"/"', 'the end'])
+"""
+
+DESKS = """
+>>> from wishshapes.desk import Desk
+>>> from wishshapes.journals import are_right, replayed
+>>> ring = (4, ((0, 1, 1), (0, 3, 1), (1, 2, 1), (2, 3, 1)))
+>>> desk = Desk(ring)
+>>> desk.act(("wish", 0, 2, 1)), desk.act(("wish", 1, 3, 1)), desk.act(("wish", 0, 1, 1)), desk.evidence(), desk.least_room()
+('ways', 'ways', 'fence', ('fence', (1, 2)), -1)
+>>> desk.act(("road", 0, 1, 2)), desk.least_room(), desk.undo(), desk.word(), desk.wishes()
+('ways', 0, ('road', 0, 1, 2), 'fence', ((0, 1, 1), (0, 2, 1), (1, 3, 1)))
+>>> are_right(ring, ((("wish", 0, 2, 1), ("ways", ((0, (0, 1, 2), (1, 1)),))),)), replayed(ring, (("wish", 0, 2, 1), ("road", 0, 1, 0))).word()
+(True, 'ways')
+"""

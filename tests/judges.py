@@ -33,13 +33,13 @@ def as_fraction(pair):
     return Fraction(pair[0], pair[1])
 
 
-def are_right_ways(net, wishes, ways):
-    """Tell whether ways, whose form is right, meet these wishes; an amount may be 0."""
-    for index, path, _ in ways:
-        if not is_right_path(net, wishes[index][0], wishes[index][1], path):
+def are_right_ways(net, wishes, ways, share=1):
+    """Tell whether ways, whose form is right, meet this share of the wishes; an amount may be 0."""
+    for index, path, amount in ways:
+        if as_fraction(amount) <= 0 or not is_right_path(net, wishes[index][0], wishes[index][1], path):
             return False
     sums = [sum(as_fraction(amount) for index, _, amount in ways if index == wish) for wish in range(len(wishes))]
-    if sums != [wish[2] for wish in wishes]:
+    if sums != [share * wish[2] for wish in wishes]:
         return False
     return fit_in(net, [(path, as_fraction(amount)) for _, path, amount in ways])
 

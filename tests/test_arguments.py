@@ -1,9 +1,10 @@
-"""Points 8, 20, 33, 43, 55, 66, 80 and 91: wrong arguments, the first one first, ahead of all other errors."""
+"""Point 8, and the errors of each chapter: wrong arguments, the first one first, ahead of all other errors."""
 
 import unittest
 
 from samples import ACROSS, ODD_KINDS, RING
-from wishshapes import against, lengths, made, meeting, nets, pairs, shapes, single, tables
+from wishshapes import (against, desk, ends, journals, lengths, made, meeting, nets, pairs, reading, rooms, scanning,
+                        shapes, shares, single, tables, writing)
 from wishshapes.errors import BadValue, NotPossible, TooLarge, WishError
 
 TRUE_NET = (4, ((0, True, 1), (0, 3, 1), (1, 2, 1), (2, 3, 1)))
@@ -18,6 +19,8 @@ TOLD = ((5, ((0, 3, 1), (0, 4, 1), (1, 3, 1), (1, 4, 1), (2, 3, 1), (2, 4, 1))),
         ((0, 1, 1), (0, 2, 1), (1, 2, 1), (3, 4, 1)), (1, 1, 1, 1, 1, 1),
         ((0, 2, 2, 1, 1), (0, 2, 2, 1, 1), (2, 0, 2, 1, 1), (1, 1, 1, 0, 2)))
 
+THREE = ((0, 1, 1), (0, 2, 1), (1, 3, 1))
+
 # Where functions ask different things of an argument of the same name, a further word tells them apart.
 RIGHT = {
     "net": RING, "wishes": ACROSS, "fence": (1, 2), "some": (0, 2), "order": (1, 0, 2, 3), "one": 1, "other": 3,
@@ -25,6 +28,9 @@ RIGHT = {
     "shape": ((0, 1), (2, 3)), "order of seven": SEVEN, "value": None, "wish": 0, "path": (0, 1, 2),
     "amount of a way": 1, "lengths": (1, 1, 1, 1), "rises": ((0, 1, 2, 1), (1, 0, 1, 2)), "point": 3,
     "shape against": BOTH, "value against": TOLD, "order of five": (4, 3, 2, 1, 0), "factor": 2,
+    "ends": (0, 2, 3), "end": 2, "other without a wish": 2, "number": 1, "road": 3, "indexes": (0, 1),
+    "wishes that clash": THREE, "indexes that clash": (0, 1, 2), "text": "4: 0-1 1; 0-1 1", "kind": "ways",
+    "text of ways": "0: 0-1-2 1/2", "ways": ((0, (0, 1, 2), (1, 2)),), "journal": (("wish", 0, 2, 1),),
 }
 
 # For each argument what is wrong for it while all the others are right.
@@ -79,7 +85,25 @@ WRONG = {
     "order of five": [(), (0, 1, 2, 3), (0, 1, 2, 3, 4, 5), (0, 1, 2, 3, 3), [4, 3, 2, 1, 0], (5, 4, 3, 2, 1), SEVEN,
                       (4, 3, 2, True, 0), (4, 3, 2, 1, False), (4, 3, 2, 1, 0.0), "01234", range(5)],
     "factor": [0, -1, 7, 8, True, False, 2.0, "2", None, (2,), [2]],
+    "ends": [(), (0,), (0, 4), (-1, 2), (2, 0), (0, 0, 2), (0, 2, 2), [0, 2], (False, 2), (0, True), (0, 2.0), "02",
+             (0, 1, 2, 3, 4), (0, None), 2, range(2)],
+    "end": [-1, 1, 4, True, False, 2.0, "2", None, (2,), [2]],
+    "number": [-1, -2, 2, 3, True, False, 1.0, "1", None, (1,), [1]],
+    "road": [-1, -4, 4, 5, True, False, 3.0, "3", None, (3,), [3]],
+    "indexes": [(2,), (-1,), (1, 0), (0, 0), (0, 1, 2), [0, 1], [], (False, 1), (0, True), (0.0,), "01", 0, range(2)],
+    "text": ["4:\n", "\n", "\n4: 0-1 1", " " * 1501, "4:" + " " * 1499, b"4:", list("4:"), ("4:",), None, 4],
+    "kind": ["", "Task", "tasks", "way", "task ", " ways", b"ways", ("ways",), ["ways"], None, 0],
+    "ways": [[], list(RIGHT["ways"]), RIGHT["ways"][0], ((2, (0, 1, 2), (1, 2)),), ((-1, (0, 1, 2), (1, 2)),),
+             ((True, (1, 2, 3), (1, 2)),), ((0, (2, 1, 0), (1, 2)),), ((0, (0, 2), (1, 2)),), ((1, (0, 1, 2), (1, 2)),),
+             ((0, [0, 1, 2], (1, 2)),), ((0, (0, 1, 2), (2, 4)),), ((0, (0, 1, 2), (0, 1)),), ((0, (0, 1, 2), 1),),
+             ((0, (0, 1, 2), (1, 0)),), ((0, (0, 1, 2), (-1, 2)),), ((0, (0, 1, 2), [1, 2]),), ((0, (0, 1, 2)),),
+             ((0, (0, 1, 0, 3, 2), (1, 2)),), ((0, (0, 1, 2), (True, 2)),), RIGHT["ways"] + (None,)],
+    "journal": [[], list(RIGHT["journal"]), RIGHT["journal"][0], RIGHT["journal"] * 21, (["wish", 0, 2, 1],),
+                RIGHT["journal"] + (None,), (("wish", 0, 2, 1), "road"), ("wish",), None, "journal", {}],
 }
+WRONG["other without a wish"] = [0, 1, *WRONG["other"]]
+WRONG["wishes that clash"], WRONG["text of ways"] = WRONG["wishes"], WRONG["text"]
+WRONG["indexes that clash"] = [(0, 3), (0, 1, 2, 3), *WRONG["indexes"][1:4], *WRONG["indexes"][5:]]
 
 ARGUMENTS = {
     nets.fences: ("net",),
@@ -140,16 +164,57 @@ ARGUMENTS = {
     lengths.can_be_met: ("net", "wishes"),
     lengths.told_evidence: ("net", "wishes"),
     lengths.accepts_evidence: ("net", "wishes", "value"),
+    ends.reach: ("net", "ends", "end"),
+    ends.greatest_total: ("net", "ends"),
+    ends.ends_evidence: ("net", "ends"),
+    ends.accepts_ends: ("net", "ends", "value"),
+    shares.greatest_share: ("net", "wishes"),
+    shares.share_evidence: ("net", "wishes"),
+    shares.accepts_share: ("net", "wishes", "value"),
+    shares.least_quotient: ("net", "wishes"),
+    rooms.room_between: ("net", "wishes", "one", "other"),
+    rooms.room_tree: ("net", "wishes"),
+    rooms.room_for: ("net", "wishes", "one", "other without a wish"),
+    rooms.wish_room: ("net", "wishes", "number"),
+    rooms.road_room: ("net", "wishes", "road"),
+    rooms.wish_evidence: ("net", "wishes", "number"),
+    rooms.road_evidence: ("net", "wishes", "road"),
+    rooms.accepts_wish: ("net", "wishes", "number", "value"),
+    rooms.accepts_road: ("net", "wishes", "road", "value"),
+    rooms.go_together: ("net", "wishes", "indexes"),
+    rooms.clashes: ("net", "wishes"),
+    rooms.sure_wishes: ("net", "wishes"),
+    rooms.given_up: ("net", "wishes"),
+    rooms.clash_evidence: ("net", "wishes that clash", "indexes that clash"),
+    rooms.accepts_clash: ("net", "wishes", "indexes", "value"),
+    scanning.scan: ("text",),
+    reading.next_tokens: ("text of ways", "kind"),
+    reading.read_task: ("text",),
+    reading.read_ways: ("net", "wishes", "text of ways"),
+    writing.task_text: ("net", "wishes"),
+    writing.ways_text: ("net", "wishes", "ways"),
+    desk.Desk: ("net",),
+    journals.replayed: ("net", "journal"),
+    journals.are_right: ("net", "value"),
 }
+
+
+def is_right_kind(name, kind):
+    """Tell whether this one of the odd kinds is not wrong for the argument by itself."""
+    if name == "amount of a way":
+        # Any integer from 1 on is an amount, however great.
+        return type(kind) is int and kind >= 1
+    if name == "journal":
+        # Which tuples are commands is asked later.
+        return type(kind) is tuple and all(type(item) is tuple for item in kind)
+    return name.split()[0] == "text" and type(kind) is str
 
 
 def wrong_for(name):
     """Return what is wrong for an argument; for a value that is judged nothing is."""
     if name == "value":
         return []
-    # Any integer from 1 on is an amount, however great.
-    kinds = [kind for kind in ODD_KINDS if name != "amount of a way" or type(kind) is not int or kind < 1]
-    return [*WRONG[name], *kinds]
+    return [*WRONG[name], *[kind for kind in ODD_KINDS if not is_right_kind(name, kind)]]
 
 
 class TestWrongArguments(unittest.TestCase):

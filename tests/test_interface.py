@@ -3,9 +3,11 @@
 import doctest
 import inspect
 import unittest
+from pathlib import Path
 
 import examples
-from wishshapes import against, errors, lengths, made, meeting, nets, pairs, shapes, single, tables
+from wishshapes import (against, desk, ends, errors, journals, lengths, made, meeting, nets, pairs, reading, rooms,
+                        scanning, shapes, shares, single, tables, writing)
 
 LISTED = {
     nets: {
@@ -53,6 +55,35 @@ LISTED = {
         "can_be_met": ["net", "wishes"], "told_evidence": ["net", "wishes"],
         "accepts_evidence": ["net", "wishes", "value"],
     },
+    ends: {
+        "reach": ["net", "ends", "end"], "greatest_total": ["net", "ends"], "ends_evidence": ["net", "ends"],
+        "accepts_ends": ["net", "ends", "value"],
+    },
+    shares: {
+        "greatest_share": ["net", "wishes"], "share_evidence": ["net", "wishes"],
+        "accepts_share": ["net", "wishes", "value"], "least_quotient": ["net", "wishes"],
+    },
+    rooms: {
+        "room_between": ["net", "wishes", "one", "other"], "room_tree": ["net", "wishes"],
+        "room_for": ["net", "wishes", "one", "other"], "wish_room": ["net", "wishes", "number"],
+        "road_room": ["net", "wishes", "road"], "wish_evidence": ["net", "wishes", "number"],
+        "road_evidence": ["net", "wishes", "road"], "accepts_wish": ["net", "wishes", "number", "value"],
+        "accepts_road": ["net", "wishes", "road", "value"], "go_together": ["net", "wishes", "indexes"],
+        "clashes": ["net", "wishes"], "sure_wishes": ["net", "wishes"], "given_up": ["net", "wishes"],
+        "clash_evidence": ["net", "wishes", "indexes"], "accepts_clash": ["net", "wishes", "indexes", "value"],
+    },
+    scanning: {"scan": ["text"]},
+    reading: {
+        "next_tokens": ["text", "kind"], "read_task": ["text"], "read_ways": ["net", "wishes", "text"],
+    },
+    writing: {"task_text": ["net", "wishes"], "ways_text": ["net", "wishes", "ways"]},
+    journals: {"replayed": ["net", "journal"], "are_right": ["net", "records"]},
+}
+
+# The methods of a desk, each with its arguments behind the desk itself.
+METHODS = {
+    "__init__": ["net"], "act": ["command"], "undo": [], "net": [], "wishes": [], "word": [], "evidence": [],
+    "least_room": [], "journal": [], "records": [], "twin": [],
 }
 
 CLASSES = {"WishError": None, "BadValue": ["name"], "TooLarge": ["what"], "NotPossible": ["why"],
@@ -60,7 +91,8 @@ CLASSES = {"WishError": None, "BadValue": ["name"], "TooLarge": ["what"], "NotPo
 
 # The examples of each section, and how many there are.
 EXAMPLES = ((examples.MADE, 10), (examples.TABLES, 11), (examples.PAIRS, 8), (examples.SHAPES, 7),
-            (examples.MEETING, 7), (examples.AGAINST, 8), (examples.LENGTHS, 9))
+            (examples.MEETING, 7), (examples.AGAINST, 8), (examples.LENGTHS, 9), (examples.ENDS, 6),
+            (examples.SHARES, 7), (examples.ROOMS, 10), (examples.TEXTS, 8), (examples.DESKS, 7))
 
 
 class TestInterface(unittest.TestCase):
@@ -88,6 +120,26 @@ class TestInterface(unittest.TestCase):
         both = ((0, 1), (0, 2), (1, 2), (3, 4))
         told = against.net_against(shape=both)
         self.assertEqual(against.multiplied(shape=both, value=told, factor=1), told)
+        self.assertEqual(ends.reach(net=ring, ends=(0, 2), end=0), (2, (1, 2)))
+        self.assertIs(shares.accepts_share(net=ring, wishes=across, value=None), False)
+        self.assertEqual(rooms.room_between(net=ring, wishes=across, one=0, other=2), 0)
+        self.assertIs(rooms.accepts_wish(net=ring, wishes=across, number=0, value=None), False)
+        self.assertEqual(rooms.road_room(net=ring, wishes=across, road=0), 0)
+        self.assertIs(rooms.go_together(net=ring, wishes=across, indexes=(0, 1)), True)
+        self.assertEqual(scanning.scan(text=""), [("end", "", 1)])
+        self.assertEqual(reading.next_tokens(text="", kind="task"), ["a number"])
+        self.assertEqual(reading.read_ways(net=ring, wishes=across, text=""), ())
+        self.assertEqual(writing.ways_text(net=ring, wishes=across, ways=()), "")
+        self.assertEqual(desk.Desk(net=ring).act(command=("wish", 0, 2, 1)), "ways")
+        self.assertEqual(journals.replayed(net=ring, journal=()).net(), ring)
+        self.assertIs(journals.are_right(net=ring, records=()), True)
+
+    def test_methods_stand_in_the_class_itself(self):
+        self.assertEqual(desk.Desk.__module__, "wishshapes.desk")
+        for name, arguments in METHODS.items():
+            method = vars(desk.Desk)[name]
+            self.assertTrue(inspect.isfunction(method))
+            self.assertEqual(list(inspect.signature(method).parameters), ["self", *arguments])
 
     def test_classes(self):
         for name, arguments in CLASSES.items():
@@ -103,6 +155,17 @@ class TestInterface(unittest.TestCase):
             runner = doctest.DocTestRunner()
             runner.run(test)
             self.assertEqual((runner.failures, runner.tries), (0, many))
+
+
+    def test_examples_of_the_readme(self):
+        readme = Path(__file__).resolve().parent.parent / "README.md"
+        # What stands behind an example ends with the block, not with an answer.
+        text = readme.read_text(encoding="utf-8").replace("```", "")
+        test = doctest.DocTestParser().get_doctest(text, {}, "README.md", None, 0)
+        runner = doctest.DocTestRunner()
+        runner.run(test)
+        self.assertEqual(runner.failures, 0)
+        self.assertGreater(runner.tries, 30)
 
 
 class TestPoint21(unittest.TestCase):

@@ -369,6 +369,12 @@ class TestAccepted(unittest.TestCase):
             for at in range(4):
                 self.accepted(("ways", put(HALVES, (at, 0), wrong)), False)
 
+    def test_amounts_below_0_that_make_up_for_others(self):
+        for ways in (((0, (0, 1, 2), (2, 1)), (0, (0, 3, 2), (-1, 1))),
+                     ((0, (0, 1, 2), (1, 1)), (0, (0, 3, 2), (0, 1)))):
+            self.assertIs(accepts_meeting(RING, ((0, 2, 1),), ("ways", ways)), False)
+            self.assertIs(accepts_meeting(DOUBLE_RING, ((0, 2, 1),), ("ways", ways)), False)
+
     def test_fractions_that_are_none(self):
         for wrong in ((2, 4), (0, 1), (1, 0), (-1, -2), (1, -2), [1, 2], 1, 0.5, (1,), (1, 2, 1), (True, 2), (1, 2.0),
                       None):

@@ -1,9 +1,42 @@
-"""The simplex method that point 86 is built on: numbers under bounds, and prices that prove them greatest."""
+"""The simplex method that points 86 and 105 are built on: numbers under bounds, and prices that prove them greatest."""
 
 import random
 import unittest
+from fractions import Fraction
 
-from wishshapes.simplex import greatest_sum
+from wishshapes.simplex import greatest_sum, greatest_value
+
+
+class TestGreatestValue(unittest.TestCase):
+    def check(self, columns, gains, bounds):
+        values, prices, unit = greatest_value(columns, gains, bounds)
+        self.assertTrue(unit > 0 and min(values) >= 0 and min(prices) >= 0)
+        for at, bound in enumerate(bounds):
+            self.assertLessEqual(sum(value * column[at] for value, column in zip(values, columns)), bound * unit)
+        for column, gain in zip(columns, gains):
+            self.assertGreaterEqual(sum(price * number for price, number in zip(prices, column)), gain * unit)
+        total = sum(value * gain for value, gain in zip(values, gains))
+        self.assertEqual(sum(price * bound for price, bound in zip(prices, bounds)), total)
+        return Fraction(total, unit)
+
+    def test_gains(self):
+        self.assertEqual(self.check([[1], [1]], [1, 3], [4]), 12)
+        self.assertEqual(self.check([[1, 1], [1, 2]], [2, 3], [4, 5]), 9)
+        self.assertEqual(self.check([[2]], [0], [4]), 0)
+
+    def test_numbers_less_than_0(self):
+        # The first number may not be more than the second one, which the second bound keeps finite.
+        self.assertEqual(self.check([[1, 0], [-1, 1]], [1, 0], [0, 5]), 5)
+        self.assertEqual(self.check([[2, 3, 0, 0], [-1, 0, 1, 0], [0, -1, 1, 1]], [1, 0, 0], [0, 0, 4, 2]),
+                         Fraction(2, 3))
+
+    def test_many(self):
+        chance = random.Random(61)
+        for _ in range(300):
+            places, many = chance.randint(1, 4), chance.randint(1, 7)
+            columns = [[chance.choice((-1, 0, 0, 1, 2)) for _ in range(places)] + [1] for _ in range(many)]
+            gains = [chance.choice((0, 0, 1, 2)) for _ in columns]
+            self.check(columns, gains, [chance.choice((0, 0, 1, 3)) for _ in range(places)] + [chance.randint(0, 4)])
 
 
 class TestGreatestSum(unittest.TestCase):

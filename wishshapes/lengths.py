@@ -2,12 +2,10 @@
 
 from wishshapes.errors import BadValue, TooLarge
 from wishshapes.nets import (are_some, first_weak, is_number, is_parted, is_tuple, is_within, is_word, need_fence,
-                             need_net, need_wishes, room_left)
+                             need_net, need_small_net, need_wishes, room_left)
 from wishshapes.simplex import greatest_sum
 from wishshapes.ways import are_meeting, paths_between, reduced, steps
 
-MOST_POINTS_MET = 6
-MOST_ROADS_MET = 9
 MOST_WISHES_MET = 5
 
 
@@ -37,7 +35,8 @@ def need_lengths(net, lengths):
 
 def need_small(net, wishes):
     """Raise TooLarge if there are more points, roads or wishes than are looked at here."""
-    if net[0] > MOST_POINTS_MET or len(net[1]) > MOST_ROADS_MET or len(wishes) > MOST_WISHES_MET:
+    need_small_net(net)
+    if len(wishes) > MOST_WISHES_MET:
         raise TooLarge("net")
 
 
@@ -115,6 +114,12 @@ def fence_rise(points, fence, wish):
     return tuple([0 if (point in fence) == (one in fence) else 1 for point in range(points)])
 
 
+def fence_lengths(net, wishes, fence):
+    """Return the pair of the lengths and the rises of the fence, for arguments that are right."""
+    lengths = [1 if is_parted(fence, one, other) else 0 for one, other, _ in net[1]]
+    return tuple(lengths), tuple([fence_rise(net[0], fence, wish) for wish in wishes])
+
+
 def worth(net, lengths):
     """Return the worth of the lengths."""
     need_net(net)
@@ -135,8 +140,7 @@ def lengths_of(net, wishes, fence):
     """Return the pair of the lengths and the rises of the fence."""
     need_wishes(net, wishes)
     need_fence(net, fence)
-    lengths = [1 if is_parted(fence, one, other) else 0 for one, other, _ in net[1]]
-    return tuple(lengths), tuple([fence_rise(net[0], fence, wish) for wish in wishes])
+    return fence_lengths(net, wishes, fence)
 
 
 def rise_from(net, lengths, point):

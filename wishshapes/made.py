@@ -29,6 +29,16 @@ def times(links, factor):
     return tuple([(one, other, number * factor) for one, other, number in links])
 
 
+def raised(links, pairs, step):
+    """Return the roads, or wishes, with those between these pairs of points greater by the step, also one below 0."""
+    return tuple([(one, other, number + step if (one, other) in pairs else number) for one, other, number in links])
+
+
+def kept(links):
+    """Return the roads, or wishes, without those whose number is 0."""
+    return tuple([link for link in links if link[2] > 0])
+
+
 def has_more(links, most):
     """Tell whether some width, or amount, is greater than the most."""
     return any([link[2] > most for link in links])

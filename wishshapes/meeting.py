@@ -1,14 +1,11 @@
 """Good wishes: they are met if and only if no fence is too weak, by half ways or by whole ones."""
 
-from wishshapes.errors import BadValue, NotPossible, TooLarge
-from wishshapes.made import times
+from wishshapes.errors import BadValue, NotPossible
+from wishshapes.made import kept, raised, times
 from wishshapes.nets import (are_some, crossing, fences, first_weak, is_number, is_parted, is_tuple, is_within,
-                             is_word, need_wishes, room_left, sums_at)
-from wishshapes.shapes import is_enough, shape_of
+                             is_word, need_small_net, need_wishes, room_left, sums_at)
+from wishshapes.shapes import need_enough, shape_of
 from wishshapes.ways import are_meeting, is_path, paths_between, reduced, steps
-
-MOST_POINTS_MET = 6
-MOST_ROADS_MET = 9
 
 
 def need_path(net, wishes, wish, path):
@@ -24,25 +21,13 @@ def need_path(net, wishes, wish, path):
 def need_good(net, wishes):
     """Raise the error that tells why these are no good wishes of a net that is small enough."""
     need_wishes(net, wishes)
-    if not is_enough(shape_of(wishes)):
-        raise NotPossible("shape")
-    if net[0] > MOST_POINTS_MET or len(net[1]) > MOST_ROADS_MET:
-        raise TooLarge("net")
-
-
-def lessened(links, pairs, amount):
-    """Return the roads, or wishes, with those between these pairs of points less by the amount."""
-    return tuple([(one, other, number - amount if (one, other) in pairs else number) for one, other, number in links])
+    need_enough(shape_of(wishes))
+    need_small_net(net)
 
 
 def left_behind(roads, wishes, wish, path, amount):
     """Return the roads and the wishes behind an amount along a path; here a width or an amount may become 0."""
-    return lessened(roads, steps(path), amount), lessened(wishes, [wishes[wish][:2]], amount)
-
-
-def kept(links):
-    """Return the roads, or wishes, without those whose number is 0."""
-    return tuple([link for link in links if link[2] > 0])
+    return raised(roads, steps(path), -amount), raised(wishes, [wishes[wish][:2]], -amount)
 
 
 def greatest_part(points, roads, wishes, wish, path):

@@ -2,7 +2,7 @@
 
 from itertools import combinations
 
-from wishshapes.errors import BadValue
+from wishshapes.errors import BadValue, TooLarge
 
 LEAST_POINTS = 2
 MOST_POINTS = 7
@@ -10,6 +10,9 @@ MOST_ROADS = 15
 MOST_WISHES = 10
 MOST_WIDTH = 6
 MOST_AMOUNT = 6
+# Ways are only searched for in nets that are no larger.
+MOST_POINTS_MET = 6
+MOST_ROADS_MET = 9
 
 
 def is_within(value, least, most):
@@ -61,11 +64,14 @@ def are_links(value, points, many, most):
     return is_ascending([link[:2] for link in value])
 
 
+def are_rising(value, least, most):
+    """Tell whether the items of the tuple are ascending integers from the least to the most."""
+    return all([is_within(item, least, most) for item in value]) and is_ascending(value)
+
+
 def are_some(value, least, points):
     """Tell whether the value is an ascending tuple of points from the least one on, neither none nor all points."""
-    if not is_tuple(value, 1, points - 1):
-        return False
-    return all([is_within(point, least, points - 1) for point in value]) and is_ascending(value)
+    return is_tuple(value, 1, points - 1) and are_rising(value, least, points - 1)
 
 
 def is_net(value):
@@ -104,6 +110,12 @@ def need_fence(net, fence):
     """Raise BadValue if the net is none, or if the fence is not one of it."""
     if not is_fence(net, fence):
         raise BadValue("fence")
+
+
+def need_small_net(net):
+    """Raise TooLarge if ways are not searched for in a net of this size."""
+    if net[0] > MOST_POINTS_MET or len(net[1]) > MOST_ROADS_MET:
+        raise TooLarge("net")
 
 
 def need_two_points(net, one, other):

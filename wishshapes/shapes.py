@@ -2,7 +2,7 @@
 
 from itertools import combinations, permutations
 
-from wishshapes.errors import BadValue
+from wishshapes.errors import BadValue, NotPossible
 from wishshapes.made import is_order
 from wishshapes.nets import (LEAST_POINTS, MOST_POINTS, is_ascending, is_pair, is_tuple, is_within,
                              is_word)
@@ -15,6 +15,12 @@ def need_shape(shape):
     """Raise BadValue if it is not a shape."""
     if not is_shape(shape):
         raise BadValue("shape")
+
+
+def need_enough(shape):
+    """Raise NotPossible if the shape of wishes is not enough."""
+    if not is_enough(shape):
+        raise NotPossible("shape")
 
 
 def is_covered(pair, kind, points):

@@ -22,21 +22,21 @@ def leaving_row(rows, basis, column):
     return found
 
 
-def greatest_sum(columns, bounds):
-    """Find numbers from 0 on, one for each column, with the greatest sum under the bounds.
+def greatest_value(columns, gains, bounds):
+    """Find numbers from 0 on, one for each column, whose sum, each number times its gain, is greatest.
 
     A column has a number for each bound, and for each bound the sum of the numbers found times those in the columns
-    is at most the bound, which is 0 or more. Each column has a number greater than 0, and none less than 0. Return
-    the numbers found, the prices of the bounds, and the unit: all of them stand for themselves divided by it. The
-    prices are 0 or more; for each column they add up, times its numbers, to 1 or more, and over all bounds, times the
-    bounds, to the sum of the numbers found.
+    is at most the bound, which is 0 or more. The bounds must keep the greatest sum finite. Return the numbers found,
+    the prices of the bounds, and the unit: all of them stand for themselves divided by it. The prices are 0 or more;
+    for each column they add up, times its numbers, to its gain or more, and over all bounds, times the bounds, to the
+    greatest sum.
     """
     many, places = len(columns), len(bounds)
     rows = []
     for at, bound in enumerate(bounds):
         slack = [1 if at == other else 0 for other in range(places)]
         rows.append([column[at] for column in columns] + slack + [bound])
-    rows.append([-1] * many + [0] * (places + 1))
+    rows.append([-gain for gain in gains] + [0] * (places + 1))
     basis, unit = list(range(many, many + places)), 1
     while min(rows[-1][:-1]) < 0:
         column = [number < 0 for number in rows[-1]].index(True)
@@ -47,3 +47,8 @@ def greatest_sum(columns, bounds):
     for row, variable in enumerate(basis):
         values[variable] = rows[row][-1]
     return values[:many], rows[-1][many:-1], unit
+
+
+def greatest_sum(columns, bounds):
+    """Find numbers with the greatest sum, for columns that each have a number greater than 0, and none less than 0."""
+    return greatest_value(columns, [1] * len(columns), bounds)

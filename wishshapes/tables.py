@@ -31,8 +31,8 @@ def need_numbers(points, numbers):
         raise BadValue("numbers")
 
 
-def leading(points, triples):
-    """Return the triples that the tree takes from these ascending ones, the greatest numbers first (point 30)."""
+def in_turn(points, triples):
+    """Return the list of the triples that connect points not yet connected, the greatest numbers first."""
     # Points that the triples taken so far lead between have the same mark.
     marks = list(range(points))
     chosen = []
@@ -41,7 +41,12 @@ def leading(points, triples):
         if low != high:
             chosen.append((one, other, number))
             marks = [low if mark == high else mark for mark in marks]
-    return tuple(sorted(chosen))
+    return chosen
+
+
+def leading(points, triples):
+    """Return the triples that the tree takes from these (point 30)."""
+    return tuple(sorted(in_turn(points, triples)))
 
 
 def comes_once(numbers, three):

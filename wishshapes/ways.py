@@ -18,12 +18,17 @@ def added(first, second):
     return reduced(first[0] * second[1] + second[0] * first[1], first[1] * second[1])
 
 
-def is_positive(value):
-    """Tell whether the value is a fraction greater than 0 (point 4)."""
+def is_fraction(value):
+    """Tell whether the value is a fraction from 0 on (point 4)."""
     if not is_tuple(value, 2, 2):
         return False
     upper, lower = value
-    return is_number(upper, 1) and is_number(lower, 1) and gcd(upper, lower) == 1
+    return is_number(upper, 0) and is_number(lower, 1) and gcd(upper, lower) == 1
+
+
+def is_positive(value):
+    """Tell whether the value is a fraction greater than 0."""
+    return is_fraction(value) and value != NOTHING
 
 
 def steps(path):
@@ -78,13 +83,21 @@ def is_way(net, wishes, value):
     return is_path(net, one, other, path) and is_positive(amount)
 
 
-def are_meeting(net, wishes, value):
-    """Tell whether the value is ways that meet the wishes; here the amount of a wish may be 0 and more than 6."""
-    if type(value) != tuple or not all([is_way(net, wishes, item) for item in value]):
+def are_ways(net, wishes, value):
+    """Tell whether the value is ways for the wishes, of whatever amounts."""
+    return type(value) == tuple and all([is_way(net, wishes, item) for item in value])
+
+
+def are_adding(net, wishes, totals, value):
+    """Tell whether the value is ways that add up to the total of each wish, a fraction, and fit within the roads."""
+    if not are_ways(net, wishes, value):
         return False
     sums = [NOTHING] * len(wishes)
     for index, _, amount in value:
         sums[index] = added(sums[index], amount)
-    if sums != [(amount, 1) for _, _, amount in wishes]:
-        return False
-    return fit(net, [(path, amount) for _, path, amount in value])
+    return sums == totals and fit(net, [(path, amount) for _, path, amount in value])
+
+
+def are_meeting(net, wishes, value):
+    """Tell whether the value is ways that meet the wishes; here the amount of a wish may be 0 and more than 6."""
+    return are_adding(net, wishes, [(amount, 1) for _, _, amount in wishes], value)
